@@ -1,0 +1,1 @@
+"""Cardsback: visits that must be paid back, by houses that part and join."""
