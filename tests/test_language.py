@@ -16,6 +16,12 @@ FUNCTIONS = {
     "books": {"is_book": 1, "with_page": 2, "without_page": 2, "both_books": 2, "up_to": 2, "apart": 2},
     "standing": {"standing": 2, "came": 2, "idle": 2, "home_of": 3},
     "sayings": {"sayings": 2, "is_sayings": 2},
+    "ranking": {"ranked": 2, "goes_ahead": 4},
+    "ringchecker": {"lets_order": 3, "lets_ring": 3},
+    "adding": {"would_ring": 3, "between": 4, "places": 3},
+    "ringsapart": {"lets_apart": 3},
+    "lettingchecker": {"lets_letting": 4},
+    "bookranks": {"ranks": 2, "first_of": 3},
 }
 
 ERRORS = ("CardsError", "NoPaper", "NoHouse", "NoPage", "NoCrowd", "NoOrder", "NoDue", "TooMany", "NoBack", "NoText",
