@@ -2,7 +2,7 @@
 
 
 def ways_from(some, a):
-    """A shortest WAY from a to each NAME that one leads to, by these NAMES.
+    """A shortest WAY from a to each NAME that one leads to, kept by these NAMES.
 
     A shortest WAY comes to no NAME twice, so none begins two of its SAYINGS.
     """
