@@ -15,6 +15,11 @@ FUNCTIONS = {
     "pages": {"is_page": 1, "page_day": 1, "page_kind": 1, "names_of": 1, "stands_ahead": 2, "in_order": 1},
     "books": {"is_book": 1, "with_page": 2, "without_page": 2, "both_books": 2, "up_to": 2, "apart": 2},
     "standing": {"standing": 2, "came": 2, "idle": 2, "home_of": 3},
+    "mourning": {"mourns": 3, "mourning_days": 4},
+    "walking": {"dues": 3, "marks": 3},
+    "lasts": {"left": 2, "last": 4},
+    "wanted": {"wanted": 5},
+    "texts": {"page_line": 1, "book_lines": 1, "due_line": 1, "cases_line": 1},
     "sayings": {"sayings": 2, "is_sayings": 2},
     "ranking": {"ranked": 2, "goes_ahead": 4},
     "ringchecker": {"lets_order": 3, "lets_ring": 3},
@@ -22,6 +27,12 @@ FUNCTIONS = {
     "ringsapart": {"lets_apart": 3},
     "lettingchecker": {"lets_letting": 4},
     "bookranks": {"ranks": 2, "first_of": 3},
+}
+
+# Each class of the interface that has landed, with its methods, and how many arguments these take beside self.
+METHODS = {
+    "albums": {"Album": {"__init__": 1, "tell": 1, "strike": 1, "take_in": 1, "back": 0, "book": 0, "terms": 0,
+                         "deeds": 0, "elder": 1}},
 }
 
 ERRORS = ("CardsError", "NoPaper", "NoHouse", "NoPage", "NoCrowd", "NoOrder", "NoDue", "TooMany", "NoBack", "NoText",
@@ -151,6 +162,30 @@ class InterfaceTest(unittest.TestCase):
                 args = there[function]
                 self.assertEqual(len(args.args), many, function)
                 self.assertFalse(args.defaults or args.vararg or args.kwarg or args.kwonlyargs, function)
+
+    def test_methods_are_defined_in_their_classes(self):
+        found = {name[:-3]: tree for name, tree in trees()}
+        for module, classes in METHODS.items():
+            for name, methods in classes.items():
+                body = [node for node in found[module].body if isinstance(node, ast.ClassDef) and node.name == name][0]
+                there = {node.name: node.args for node in body.body if isinstance(node, ast.FunctionDef)}
+                for method, many in methods.items():
+                    self.assertEqual(len(there[method].args), many + 1, method)
+                    self.assertFalse(there[method].defaults or there[method].vararg, method)
+
+    def test_no_name_is_a_method_and_an_attribute(self):
+        methods, assigned, used = set(), set(), set()
+        for name, tree in trees():
+            for node in ast.walk(tree):
+                if isinstance(node, ast.ClassDef):
+                    methods |= {one.name for one in node.body if isinstance(one, ast.FunctionDef)}
+                elif isinstance(node, ast.Attribute) and isinstance(node.ctx, ast.Store):
+                    assigned.add(node.attr)
+                elif isinstance(node, ast.Attribute):
+                    used.add(node.attr)
+        self.assertFalse(methods & assigned)
+        builtin = {one for kind in (str, list, dict) for one in dir(kind)}
+        self.assertFalse(used - assigned - methods - builtin)
 
     def test_errors_are_defined_in_their_file(self):
         tree = dict(trees())["errors.py"]

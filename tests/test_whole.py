@@ -1,0 +1,133 @@
+"""What holds over all modules: points 2, 3, 4 and 36."""
+
+import random
+import unittest
+
+from cardsback.books import up_to, with_page
+from cardsback.lasts import last, left
+from cardsback.mourning import mourning_days, mourns
+from cardsback.pages import in_order
+from cardsback.texts import book_lines, due_line, page_line
+from cardsback.walking import dues, marks
+from cardsback.wanted import wanted
+from tests.secondwalk import draw_terms, draw_walk_book, drawn_walks
+from tests.things import NAMES, outcome
+
+GOINGS = ("card", "visit")
+
+
+def keys(some):
+    return [due[:4] for due in some]
+
+
+class GoingsTest(unittest.TestCase):
+    def test_each_going_answers_or_makes_one_never_both(self):
+        met = {"answer": 0, "due": 0, "idle": 0, "done": 0}
+        for book, terms, day in drawn_walks(201, 80):
+            told = dict(marks(book, terms, book[-1][1]))
+            for k, page in enumerate(book):
+                before, after = (set(keys(dues(book[:j], terms, page[1]))) for j in (k, k + 1))
+                mark = told[page]
+                met[mark[0]] += 1
+                if page[0] not in GOINGS:
+                    self.assertIn(mark, (("done",), ("idle",)))
+                elif mark == ("idle",):
+                    self.assertEqual(before, after)
+                elif mark == ("due",):
+                    self.assertEqual((len(after - before), before - after), (1, set()))
+                    self.assertEqual({key[3] for key in after - before}, {page})
+                else:
+                    self.assertEqual((mark[0], len(before - after), after - before), ("answer", mark[1], set()))
+                    self.assertGreaterEqual(mark[1], 1)
+        self.assertGreater(min(met.values()), 50, met)
+
+
+class LaterTest(unittest.TestCase):
+    def check_no_sooner(self, former, later):
+        """Of two pairs (BOOK, TERMS): the same DUES stand BEHIND each day, each with a LEFT that is no less."""
+        rude = 0
+        for day in range(0, 60, 3):
+            old, new = dues(*former, day), dues(*later, day)
+            self.assertEqual(keys(old), keys(new))
+            for one, other in zip(old, new):
+                self.assertGreaterEqual(left(later[1], other), left(former[1], one))
+                if left(later[1], other) == 0:
+                    rude += 1
+                    self.assertEqual(left(former[1], one), 0)
+                    self.assertLessEqual(one[4][-1], other[4][-1])
+        return rude
+
+    def test_longer_terms(self):
+        rng = random.Random(202)
+        rude = 0
+        for _ in range(60):
+            book, terms = draw_walk_book(rng), draw_terms(rng)
+            longer = tuple(term + rng.randrange(4) for term in terms)
+            rude += self.check_no_sooner((book, terms), (book, longer))
+        self.assertGreater(rude, 100)
+
+    def test_more_mourning(self):
+        rng = random.Random(203)
+        rude = changed = 0
+        for _ in range(200):
+            book, terms = draw_walk_book(rng, many=40), draw_terms(rng)
+            name, day, many = rng.choice(NAMES[:6]), rng.randrange(35), rng.randint(1, 8)
+            busy = [page[1] for page in book if page[0] in GOINGS and name in page[2:4]]
+            if any(day <= one < day + many for one in busy):
+                continue
+            more = with_page(book, ("mourn", day, name, many))
+            rude += self.check_no_sooner((book, terms), (more, terms))
+            changed += dues(book, terms, 44) != dues(more, terms, 44)
+        self.assertGreater(rude, 100)
+        self.assertGreater(changed, 5)
+
+
+class PayingTest(unittest.TestCase):
+    def test_whoever_pays_on_the_last_day_or_ahead_of_it_is_not_rude(self):
+        paid = 0
+        for book, terms, day in drawn_walks(204, 150):
+            for due in dues(book, terms, day):
+                if left(terms, due) == 0:
+                    continue
+                end = last(book, terms, day, due)
+                for pays in {day + 1, (day + 1 + end) // 2, end}:
+                    for kind in GOINGS:
+                        going = (kind, pays, due[0], due[1])
+                        paid += self.check_paid(in_order(up_to(book, day) + (going,)), terms, day, due, going, end)
+        self.assertGreater(paid, 300)
+
+    def check_paid(self, book, terms, day, due, going, end):
+        """Whether the GOING answers the DUE; then it is RUDE behind none of the days."""
+        if due[:4] in keys(dues(book, terms, going[1])):
+            return False
+        for later in {day, day + 1, going[1] - 1, going[1], end}:
+            rude = [one for one in dues(book, terms, later) if one[:4] == due[:4] and left(terms, one) == 0]
+            self.assertEqual(rude, [])
+        return True
+
+
+class AskedAgainTest(unittest.TestCase):
+    def questions(self, rng):
+        """Drawn questions of all kinds: functions with what is handed in."""
+        book, terms, day = draw_walk_book(rng), draw_terms(rng), rng.randrange(40)
+        name, far = rng.choice(NAMES[:6]), rng.randint(1, 28)
+        due = rng.choice(dues(book, terms, day) + [("a", "b", "card", ("card", 0, "a", "b"), ())])
+        return [(mourns, (book, day, name)), (mourning_days, (book, day, name, far)), (dues, (book, terms, day)),
+                (marks, (book, terms, day)), (left, (terms, due)), (last, (book, terms, day, due)),
+                (wanted, (book, terms, day, name, far)), (page_line, (due[3],)), (book_lines, (book,)),
+                (due_line, (due,))]
+
+    def test_the_same_is_told_again_and_nothing_is_changed(self):
+        rng = random.Random(205)
+        for _ in range(30):
+            asked = self.questions(rng) + self.questions(rng)
+            kept = [repr(args) for function, args in asked]
+            told = [outcome(function, *args) for function, args in asked]
+            for k in rng.sample(range(len(asked)), len(asked)):
+                function, args = asked[k]
+                self.assertEqual(outcome(function, *args), told[k], function)
+            self.assertEqual([repr(args) for function, args in asked], kept)
+
+
+if __name__ == "__main__":
+    unittest.main()
