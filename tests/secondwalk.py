@@ -5,6 +5,14 @@ import random
 from cardsback.pages import in_order
 from tests.things import NAMES, draw_home
 
+WEEK = tuple(range(7))
+HOUSES = [("house", 0, name, WEEK) for name in ("ash", "elm", "fern")]
+
+
+def book_of(*pages):
+    """The BOOK of three houses that are always at home and of these PAGES."""
+    return in_order(HOUSES + list(pages))
+
 
 class Second:
     """How all stands BEHIND a day; DUES are kept by (ower, owed, page) as pairs (sort, falls)."""
@@ -136,7 +144,7 @@ def draw_walk_book(rng, many=60, days=30, kinds=ALL, names=NAMES[:6], start=0):
     there = rng.sample(names, min(rng.randint(2, 4), len(names)))
     pages = []
     for name in there:
-        home = tuple(range(7)) if rng.random() < 0.4 else draw_home(rng)
+        home = WEEK if rng.random() < 0.4 else draw_home(rng)
         pages.append(("house", rng.choice((0, 0, 0, 2)), name, home))
     pages += [draw_walk_page(rng, names, there, days, kinds) for _ in range(rng.randint(many // 3, many))]
     # Who parted goes up again where it came from, so that copies come together.

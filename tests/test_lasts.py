@@ -4,20 +4,13 @@ import unittest
 from cardsback.books import up_to
 from cardsback.errors import NoDue
 from cardsback.lasts import last, left
-from cardsback.pages import in_order
 from cardsback.walking import dues
-from tests.secondwalk import Second, draw_terms, draw_walk_book, drawn_walks
+from tests.secondwalk import Second, book_of, draw_terms, draw_walk_book, drawn_walks
 from tests.things import put, refusal
 
-WEEK = tuple(range(7))
-HOUSES = [("house", 0, name, WEEK) for name in ("ash", "elm", "fern")]
 VISIT = ("visit", 2, "ash", "elm")
 CARD = ("card", 2, "ash", "elm")
 TERMS = (5, 3)
-
-
-def book_of(*pages):
-    return in_order(HOUSES + list(pages))
 
 
 def last_of_first(book, day, terms=TERMS):

@@ -130,7 +130,8 @@ class CasesLineTest(unittest.TestCase):
     def test_a_node_ahead_of_its_parts(self):
         inner = ("more", ("b",), (("short", ("c",)), ("short", ("d",))))
         cases = ("more", ("a",), (inner, ("apart", ("e",)), ("more", ("f",), (inner,))))
-        self.assertEqual(cases_line(cases), "more a 3 more b 2 short c short d apart e more f 1 more b 2 short c short d")
+        self.assertEqual(cases_line(cases),
+                         "more a 3 more b 2 short c short d apart e more f 1 more b 2 short c short d")
 
     def test_both_sorts_mixed(self):
         cases = ("one", AB, (("more", ("ash",), (("rings", (ABC, AB)), ("short", ("elm",)))), ("apart", ("fern",))))

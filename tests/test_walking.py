@@ -4,16 +4,9 @@ import unittest
 from cardsback.books import up_to
 from cardsback.pages import in_order
 from cardsback.walking import dues, marks
-from tests.secondwalk import ALL, GOING, Second, draw_terms, draw_walk_book, drawn_walks
+from tests.secondwalk import ALL, GOING, Second, book_of, draw_terms, draw_walk_book, drawn_walks
 
-WEEK = tuple(range(7))
-HOUSES = [("house", 0, name, WEEK) for name in ("ash", "elm", "fern")]
 TERMS = (5, 3)
-
-
-def book_of(*pages):
-    """The BOOK of three houses that are always at home and of these PAGES."""
-    return in_order(HOUSES + list(pages))
 
 
 def due_parts(book, day, terms=TERMS):

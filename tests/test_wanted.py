@@ -3,18 +3,11 @@ import unittest
 
 from cardsback.books import up_to
 from cardsback.errors import NoHouse
-from cardsback.pages import in_order
 from cardsback.wanted import wanted
-from tests.secondwalk import Second, draw_terms, draw_walk_book
+from tests.secondwalk import Second, book_of, draw_terms, draw_walk_book
 from tests.things import NAMES, outcome, refusal
 
-WEEK = tuple(range(7))
-HOUSES = [("house", 0, name, WEEK) for name in ("ash", "elm", "fern")]
 TERMS = (5, 3)
-
-
-def book_of(*pages):
-    return in_order(HOUSES + list(pages))
 
 
 def right_wanted(book, terms, day, name, far):
@@ -64,8 +57,8 @@ class WantedTest(unittest.TestCase):
     def test_several_rising(self):
         book = book_of(("card", 2, "fern", "ash"), ("visit", 3, "elm", "ash"), ("house", 1, "a", ()),
                        ("card", 3, "a", "ash"))
-        self.assertEqual(wanted(book, TERMS, 3, "ash", 28), (("a", "card", (4, 5, 6)),
-                                                             ("elm", "visit", (4, 5, 6, 7, 8)), ("fern", "card", (4, 5))))
+        self.assertEqual(wanted(book, TERMS, 3, "ash", 28),
+                         (("a", "card", (4, 5, 6)), ("elm", "visit", (4, 5, 6, 7, 8)), ("fern", "card", (4, 5))))
 
     def test_the_least_last(self):
         book = book_of(("card", 2, "elm", "ash"), ("card", 4, "elm", "ash"))

@@ -4,14 +4,21 @@ import random
 import unittest
 
 from cardsback.books import up_to, with_page
+from cardsback.fewest import day_sets, fewest
 from cardsback.lasts import last, left
 from cardsback.mourning import mourning_days, mourns
+from cardsback.owing import matters, owes, sums
 from cardsback.pages import in_order
+from cardsback.plans import followed, home_worth, plan
+from cardsback.rudes import rude, rude_papers
+from cardsback.serving import any_round, served
 from cardsback.texts import book_lines, due_line, page_line
 from cardsback.walking import dues, marks
 from cardsback.wanted import wanted
+from cardsback.wants import all_days, is_wants, with_day, with_want, without_want
 from tests.secondwalk import draw_terms, draw_walk_book, drawn_walks
 from tests.things import NAMES, outcome
+from tests.wantschecks import draw_wants
 
 GOINGS = ("card", "visit")
 
@@ -115,12 +122,25 @@ class AskedAgainTest(unittest.TestCase):
         return [(mourns, (book, day, name)), (mourning_days, (book, day, name, far)), (dues, (book, terms, day)),
                 (marks, (book, terms, day)), (left, (terms, due)), (last, (book, terms, day, due)),
                 (wanted, (book, terms, day, name, far)), (page_line, (due[3],)), (book_lines, (book,)),
-                (due_line, (due,))]
+                (due_line, (due,)), (owes, (book, terms, day, name, rng.choice(NAMES[:6]))),
+                (matters, (book, terms, day)), (sums, (book, terms, day)), (rude, (book, terms, day)),
+                (rude_papers, (book, terms, day)), (plan, (book, terms, day, name, rng.randint(1, 4), far)),
+                (followed, (book, day, ((day + 1, (("card", day + 1, "a", "b"),)),))),
+                (home_worth, (book, terms, day, name, rng.randint(1, 4), far, rng.choice(NAMES[:6])))]
+
+    def questions_of_wants(self, rng):
+        """Drawn questions about WANTS."""
+        wants, most, day = draw_wants(rng) or (("a", (1, 4)),), rng.randint(1, 4), rng.randrange(24)
+        name = rng.choice(wants)[0]
+        return [(is_wants, (wants,)), (all_days, (wants,)), (with_day, (wants, name, day)),
+                (with_want, (wants, name, (day, day + 2))), (without_want, (wants, name)),
+                (served, (wants, most, all_days(wants)[:5])), (any_round, (wants, most)), (fewest, (wants, most)),
+                (day_sets, (wants, most, rng.randint(0, 4)))]
 
     def test_the_same_is_told_again_and_nothing_is_changed(self):
         rng = random.Random(205)
         for _ in range(30):
-            asked = self.questions(rng) + self.questions(rng)
+            asked = self.questions(rng) + self.questions(rng) + self.questions_of_wants(rng)
             kept = [repr(args) for function, args in asked]
             told = [outcome(function, *args) for function, args in asked]
             for k in rng.sample(range(len(asked)), len(asked)):
