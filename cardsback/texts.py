@@ -18,11 +18,15 @@ def book_lines(book):
     return [page_line(page) for page in book]
 
 
+def days_word(days):
+    """Days as a word."""
+    return ",".join(str(day) for day in days) or "-"
+
+
 def due_line(due):
     """A DUE as a line."""
     ower, owed, sort, page, falls = due
-    days = ",".join(str(day) for day in falls) or "-"
-    return f"{ower} {owed} {sort} {days} {page_line(page)}"
+    return f"{ower} {owed} {sort} {days_word(falls)} {page_line(page)}"
 
 
 def ring_word(ring):

@@ -59,6 +59,8 @@ class Walk:
         self.known = []
         self.dues = []
         self.marks = []
+        # Pairs of a GOING and the DUES that it answered.
+        self.answers = []
         # How many DUES were copied, were struck, and did not stay beside another one.
         self.copied = 0
         self.struck = 0
@@ -97,6 +99,7 @@ class Walk:
         answers = [due for due in self.dues if due[:2] == (a, b) and (met or due[2] == "card")]
         if answers:
             self.dues = [due for due in self.dues if due not in answers]
+            self.answers.append((page, answers))
             return "answer", len(answers)
         self.dues.append((b, a, "visit" if met else "card", page, ()))
         return ("due",)

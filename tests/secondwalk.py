@@ -20,7 +20,8 @@ class Second:
     def __init__(self, book, terms, day):
         self.terms = {"visit": terms[0], "card": terms[1]}
         self.homes, self.met, self.black = {}, set(), []
-        self.kept, self.marked = {}, []
+        self.heirs, self.stocks = {}, {}
+        self.kept, self.marked, self.paid = {}, [], []
         self.made = self.copied = self.answered = self.struck = self.one = 0
         pages = [page for page in book if page[1] <= day]
         for today in range(pages[0][1] if pages else 0, day + 1):
@@ -46,13 +47,16 @@ class Second:
         mark = getattr(self, "do_" + kind, lambda *_: None)(page, *rest)
         self.marked.append((page, mark or ("done",)))
 
-    def do_house(self, page, a, home):
+    def do_home(self, page, a, home):
         self.homes[a] = home
 
-    do_home = do_house
+    def do_house(self, page, a, home, *stock):
+        self.homes[a] = home
+        self.heirs[a] = a
+        self.stocks[a] = (a, *stock)
 
     def do_part(self, page, a, b, home):
-        self.homes[b] = home
+        self.do_house(page, b, home, *self.stocks[a])
         for (ower, owed, made), worth in list(self.kept.items()):
             if ower == a:
                 self.kept[b, owed, made] = worth
@@ -60,6 +64,7 @@ class Second:
 
     def do_join(self, page, a, b):
         del self.homes[b]
+        self.heirs = {name: a if there == b else there for name, there in self.heirs.items()}
         before, self.kept = self.kept, {}
         for (ower, owed, made), (sort, falls) in before.items():
             if {ower, owed} == {a, b}:
@@ -85,6 +90,8 @@ class Second:
             del self.kept[key]
         self.answered += len(paid)
         if paid:
+            place = {made: k for k, (made, mark) in enumerate(self.marked)}
+            self.paid.append((page, tuple(sorted(paid, key=lambda key: place[key[2]]))))
             return ("answer", len(paid))
         self.made += 1
         self.kept[b, a, page] = ("visit" if met else "card", ())

@@ -93,9 +93,12 @@ def line_by_calls(node):
     return line
 
 
+RINGS = (AB, ABC, AB[::-1], ABC[1:] + ABC[:1])
+
+
 def draw_node(rng, depth):
     names = tuple(rng.choice(("a", "ash", "elm", "fern")) for _ in range(rng.randint(1, 4)))
-    rings = tuple(rng.choice((AB, ABC, AB[::-1], ABC[:1])) for _ in range(rng.randint(1, 3)))
+    rings = tuple(rng.choice(RINGS) for _ in range(rng.randint(1, 3)))
     parts = tuple(draw_node(rng, depth - 1) for _ in range(rng.randint(0, 3))) if depth else ()
     return rng.choice((("apart", names), ("short", names), ("more", names, parts), ("more", names, parts),
                        ("rings", rings), ("one", rings[0], parts), ("one", rings[0], parts)))

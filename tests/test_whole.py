@@ -1,23 +1,32 @@
-"""What holds over all modules: points 2, 3, 4 and 36."""
+"""What holds over all modules: points 2, 3, 4, 15, 22, 28 and 36."""
 
 import random
 import unittest
 
+from cardsback.albums import Album
+from cardsback.answering import answered, would
+from cardsback.athome import at_home, home_days
 from cardsback.books import up_to, with_page
+from cardsback.desk import Desk
 from cardsback.fewest import day_sets, fewest
+from cardsback.heirs import heir, parted_from
 from cardsback.lasts import last, left
 from cardsback.mourning import mourning_days, mourns
 from cardsback.owing import matters, owes, sums
 from cardsback.pages import in_order
 from cardsback.plans import followed, home_worth, plan
+from cardsback.readings import read_book, read_cases, read_page
+from cardsback.rudechecker import lets_rude
 from cardsback.rudes import rude, rude_papers
 from cardsback.serving import any_round, served
-from cardsback.texts import book_lines, due_line, page_line
+from cardsback.standing import came, standing
+from cardsback.texts import book_lines, cases_line, due_line, page_line
 from cardsback.walking import dues, marks
 from cardsback.wanted import wanted
 from cardsback.wants import all_days, is_wants, with_day, with_want, without_want
-from tests.secondwalk import draw_terms, draw_walk_book, drawn_walks
-from tests.things import NAMES, outcome
+from tests.secondwalk import GOING, Second, draw_terms, draw_walk_book, drawn_walks
+from tests.test_texts import draw_node
+from tests.things import NAMES, outcome, refusal
 from tests.wantschecks import draw_wants
 
 GOINGS = ("card", "visit")
@@ -27,11 +36,72 @@ def keys(some):
     return [due[:4] for due in some]
 
 
+class LateTest(unittest.TestCase):
+    def draw_deed(self, rng, albums, pages, kept):
+        """Do a drawn deed; kept are the PAGES that each ALBUM has to have, behind each of its deeds."""
+        k = rng.randrange(2)
+        now = set(kept[k][-1])
+        deed, page = rng.choice(("tell", "tell", "tell", "tell", "strike", "take", "back")), rng.choice(pages)
+        if deed == "back" and len(kept[k]) > 1:
+            albums[k].back()
+            kept[k].pop()
+            return
+        if deed == "tell":
+            albums[k].tell(page)
+            now.add(page)
+        elif deed == "take":
+            albums[k].take_in(albums[1 - k])
+            now |= kept[1 - k][-1]
+        elif page in now:
+            albums[k].strike(page)
+            now.remove(page)
+        if now != kept[k][-1]:
+            kept[k].append(now)
+
+    def check_days(self, album, pages):
+        """What is told of each day is that of walking these PAGES by days."""
+        book, terms = album.book(), album.terms()
+        self.assertEqual(book, in_order(list(pages)))
+        for day in range(0, 40, 3):
+            second = Second(in_order(list(pages)), terms, day)
+            self.assertEqual(dues(book, terms, day), second.dues())
+            self.assertEqual(marks(book, terms, day), second.marked)
+            self.assertEqual(sums(book, terms, day), second.sums())
+            self.assertEqual(answered(book, terms, day), second.paid)
+            self.assertEqual(standing(book, day), sorted(second.homes.items()))
+            self.assertEqual({name: heir(book, day, name) for name in came(book, day)}, second.heirs)
+            self.assertEqual({name: parted_from(book, day, name) for name in came(book, day)}, second.stocks)
+
+    def test_behind_any_deeds_each_day_is_that_of_walking_the_pages(self):
+        rng = random.Random(206)
+        for _ in range(15):
+            pages, albums = draw_walk_book(rng), [Album(draw_terms(rng)) for _ in range(2)]
+            kept = [[set()], [set()]]
+            for _ in range(rng.randint(60, 150)):
+                self.draw_deed(rng, albums, pages, kept)
+            for album, some in zip(albums, kept):
+                self.assertEqual(album.deeds(), len(some) - 1)
+                self.check_days(album, some[-1])
+
+    def test_two_that_took_in_one_another_tell_the_same_of_each_day(self):
+        rng = random.Random(207)
+        for _ in range(10):
+            pages, terms = draw_walk_book(rng, many=70), draw_terms(rng)
+            albums = [Album(terms), Album(terms)]
+            for page in rng.sample(pages, len(pages)):
+                rng.choice(albums).tell(page)
+            albums[0].take_in(albums[1])
+            albums[1].take_in(albums[0])
+            for album in albums:
+                self.check_days(album, pages)
+
+
 class GoingsTest(unittest.TestCase):
     def test_each_going_answers_or_makes_one_never_both(self):
         met = {"answer": 0, "due": 0, "idle": 0, "done": 0}
         for book, terms, day in drawn_walks(201, 80):
             told = dict(marks(book, terms, book[-1][1]))
+            paid = dict(answered(book, terms, book[-1][1]))
             for k, page in enumerate(book):
                 before, after = (set(keys(dues(book[:j], terms, page[1]))) for j in (k, k + 1))
                 mark = told[page]
@@ -46,7 +116,25 @@ class GoingsTest(unittest.TestCase):
                 else:
                     self.assertEqual((mark[0], len(before - after), after - before), ("answer", mark[1], set()))
                     self.assertGreaterEqual(mark[1], 1)
+                    self.assertEqual({(key[0], key[1], key[3]) for key in before - after}, set(paid.pop(page)))
+            self.assertEqual(paid, {})
         self.assertGreater(min(met.values()), 50, met)
+
+
+class RudeTest(unittest.TestCase):
+    def test_nobody_is_told_rude_but_with_the_going_and_the_days_that_fell(self):
+        told = 0
+        for book, terms, day in drawn_walks(208, 120, kinds=GOING + ("mourn",) * 4 + ("home", "ahead")):
+            for ower, owed, page, falls in rude_papers(book, terms, day):
+                self.assertEqual(page[2:], (owed, ower))
+                fell = [later for later in range(page[1] + 1, falls[-1] + 1)
+                        if not mourns(book, later, ower) and not mourns(book, later, owed)]
+                self.assertEqual(list(falls), fell)
+                self.assertIs(lets_rude(book, terms, day, (ower, owed, page, falls)), True)
+                self.assertEqual(refusal(lets_rude, book, terms, falls[-1] - 1, (ower, owed, page, falls[:-1])).word,
+                                 "few")
+                told += 1
+        self.assertGreater(told, 100)
 
 
 class LaterTest(unittest.TestCase):
@@ -119,7 +207,18 @@ class AskedAgainTest(unittest.TestCase):
         book, terms, day = draw_walk_book(rng), draw_terms(rng), rng.randrange(40)
         name, far = rng.choice(NAMES[:6]), rng.randint(1, 28)
         due = rng.choice(dues(book, terms, day) + [("a", "b", "card", ("card", 0, "a", "b"), ())])
-        return [(mourns, (book, day, name)), (mourning_days, (book, day, name, far)), (dues, (book, terms, day)),
+        desk = Desk()
+        desk.say("album one 5 3")
+        desk.say(f"tell one {page_line(book[0])}")
+        going = ("visit", day + 1, "zz", name)
+        paper = rng.choice(rude_papers(book, terms, 60) + [(name, "ash", going, (1, 2))])
+        cases = cases_line(draw_node(rng, 2))
+        return [(heir, (book, day, name)), (parted_from, (book, day, name)), (at_home, (book, day, name)),
+                (home_days, (book, day, name, far)), (answered, (book, terms, day)), (would, (book, terms, day, going)),
+                (lets_rude, (book, terms, day, paper)), (read_page, (page_line(due[3]),)), (read_cases, (cases,)),
+                (read_cases, (cases[1:],)), (read_book, (book_lines(book),)), (read_book, (["house 1 ash"],)),
+                (desk.say, ("book one",)), (desk.say, (f"dues one {day}",)), (desk.say, ("books one",)),
+                (mourns, (book, day, name)), (mourning_days, (book, day, name, far)), (dues, (book, terms, day)),
                 (marks, (book, terms, day)), (left, (terms, due)), (last, (book, terms, day, due)),
                 (wanted, (book, terms, day, name, far)), (page_line, (due[3],)), (book_lines, (book,)),
                 (due_line, (due,)), (owes, (book, terms, day, name, rng.choice(NAMES[:6]))),
