@@ -2,7 +2,7 @@
 
 from cardsback.errors import NoCrowd, TooMany
 from cardsback.serving import any_round, served, within
-from cardsback.wants import all_days
+from cardsback.wants import all_days, days_together
 
 MOST_GOINGS = 4
 
@@ -44,7 +44,7 @@ def seek(wants, most, number, taken):
 def seek_further(wants, most, number, taken, crowd):
     """What is found where each further day of a crowd on the TAKEN days is TAKEN in its turn."""
     parts = []
-    for day in all_days([want for want in wants if want[0] in crowd]):
+    for day in days_together(wants, crowd):
         if day not in taken:
             word, told = seek(wants, most, number, taken + (day,))
             if word == "round":

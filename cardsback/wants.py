@@ -27,6 +27,11 @@ def all_days(wants):
     return tuple(sorted({day for name, days in wants for day in days}))
 
 
+def days_together(wants, names):
+    """The DAYS of some names, rising."""
+    return all_days([want for want in wants if want[0] in names])
+
+
 def days_of_name(wants, name):
     """The days of one of the names."""
     return [days for other, days in wants if other == name][0]

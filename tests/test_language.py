@@ -25,9 +25,15 @@ FUNCTIONS = {
     "owing": {"owes": 5, "matters": 3, "sums": 3},
     "rudes": {"rude": 3, "rude_papers": 3},
     "rudechecker": {"lets_rude": 4},
+    "soon": {"soon": 5, "first_rude": 3},
     "wants": {"is_wants": 1, "all_days": 1, "with_day": 3, "with_want": 3, "without_want": 2},
+    "rounds": {"lets_round": 3, "days_of": 1},
+    "crowds": {"lets_crowd": 3},
     "serving": {"served": 3, "any_round": 2},
+    "casechecker": {"lets_cases": 4},
     "fewest": {"fewest": 2, "day_sets": 3},
+    "rows": {"in_a_row": 1, "row_round": 1},
+    "worths": {"day_worth": 4, "want_worth": 2, "place_worth": 1},
     "plans": {"plan": 6, "followed": 3, "home_worth": 7},
     "texts": {"page_line": 1, "book_lines": 1, "due_line": 1, "cases_line": 1},
     "readings": {"read_page": 1, "read_book": 1, "read_cases": 1},
@@ -37,6 +43,7 @@ FUNCTIONS = {
     "adding": {"would_ring": 3, "between": 4, "places": 3},
     "ringsapart": {"lets_apart": 3},
     "lettingchecker": {"lets_letting": 4},
+    "letting": {"let_go": 2},
     "bookranks": {"ranks": 2, "first_of": 3},
 }
 

@@ -7,26 +7,33 @@ from cardsback.albums import Album
 from cardsback.answering import answered, would
 from cardsback.athome import at_home, home_days
 from cardsback.books import up_to, with_page
+from cardsback.casechecker import lets_cases
+from cardsback.crowds import lets_crowd
 from cardsback.desk import Desk
 from cardsback.fewest import day_sets, fewest
 from cardsback.heirs import heir, parted_from
 from cardsback.lasts import last, left
+from cardsback.letting import let_go
 from cardsback.mourning import mourning_days, mourns
 from cardsback.owing import matters, owes, sums
 from cardsback.pages import in_order
 from cardsback.plans import followed, home_worth, plan
 from cardsback.readings import read_book, read_cases, read_page
+from cardsback.rounds import days_of, lets_round
+from cardsback.rows import in_a_row, row_round
 from cardsback.rudechecker import lets_rude
 from cardsback.rudes import rude, rude_papers
 from cardsback.serving import any_round, served
+from cardsback.soon import first_rude, soon
 from cardsback.standing import came, standing
 from cardsback.texts import book_lines, cases_line, due_line, page_line
 from cardsback.walking import dues, marks
 from cardsback.wanted import wanted
 from cardsback.wants import all_days, is_wants, with_day, with_want, without_want
+from cardsback.worths import day_worth, place_worth, want_worth
 from tests.secondwalk import GOING, Second, draw_terms, draw_walk_book, drawn_walks
 from tests.test_texts import draw_node
-from tests.things import NAMES, outcome, refusal
+from tests.things import NAMES, draw_sayings, outcome, refusal
 from tests.wantschecks import draw_wants
 
 GOINGS = ("card", "visit")
@@ -217,6 +224,8 @@ class AskedAgainTest(unittest.TestCase):
                 (home_days, (book, day, name, far)), (answered, (book, terms, day)), (would, (book, terms, day, going)),
                 (lets_rude, (book, terms, day, paper)), (read_page, (page_line(due[3]),)), (read_cases, (cases,)),
                 (read_cases, (cases[1:],)), (read_book, (book_lines(book),)), (read_book, (["house 1 ash"],)),
+                (soon, (book, terms, day, name, far)), (first_rude, (book, terms, day)),
+                (let_go, (NAMES[:5], draw_sayings(rng, NAMES[:5], rng.randint(0, 12)))),
                 (desk.say, ("book one",)), (desk.say, (f"dues one {day}",)), (desk.say, ("books one",)),
                 (mourns, (book, day, name)), (mourning_days, (book, day, name, far)), (dues, (book, terms, day)),
                 (marks, (book, terms, day)), (left, (terms, due)), (last, (book, terms, day, due)),
@@ -231,7 +240,12 @@ class AskedAgainTest(unittest.TestCase):
         """Drawn questions about WANTS."""
         wants, most, day = draw_wants(rng) or (("a", (1, 4)),), rng.randint(1, 4), rng.randrange(24)
         name = rng.choice(wants)[0]
-        return [(is_wants, (wants,)), (all_days, (wants,)), (with_day, (wants, name, day)),
+        word, told = any_round(wants, most)
+        return [(lets_round, (wants, most, told)), (lets_crowd, (wants, most, told)), (in_a_row, (wants,)),
+                (days_of, (told if word == "round" else (),)), (row_round, (wants,)), (want_worth, (wants, most)),
+                (day_worth, (wants, most, name, (day, 0))), (place_worth, (wants,)),
+                (lets_cases, (wants, most, rng.randint(0, 4), ("apart", (name,)))),
+                (is_wants, (wants,)), (all_days, (wants,)), (with_day, (wants, name, day)),
                 (with_want, (wants, name, (day, day + 2))), (without_want, (wants, name)),
                 (served, (wants, most, all_days(wants)[:5])), (any_round, (wants, most)), (fewest, (wants, most)),
                 (day_sets, (wants, most, rng.randint(0, 4)))]
