@@ -1,12 +1,11 @@
 """Words of texts, and what each of them writes."""
 
-from cardsback.days import LAST_DAY, WEEK, is_home, is_name, is_rising
-from cardsback.pages import LONGEST_MOURNING
+from cardsback.days import WEEK, is_home, is_name, is_rising
 
 # From which number to which one the numbers of each form are.
 BOUNDS = {
-    "day": (0, LAST_DAY),
-    "many": (1, LONGEST_MOURNING),
+    "day": (0, 9999),
+    "many": (1, 60),
     "term": (1, 60),
     "rings": (1, 60),
     "parts": (0, 60),
